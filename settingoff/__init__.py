@@ -1,0 +1,1 @@
+"""Waiting rooms: switches with watchers, chains, meeting points and doors."""

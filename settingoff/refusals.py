@@ -1,0 +1,9 @@
+"""The numbers that refused calls answer, and the room there is."""
+
+OUT_OF_RANGE = -1
+WAITS_ALREADY = -3
+NEVER_OR_SAME = -4
+NO_ROOM = -5
+NOT_WAITING = -10
+
+ROOM = 1000
