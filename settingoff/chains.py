@@ -119,13 +119,18 @@ def move(rooms, c, d, met, order):
     return told_ids(ids)
 
 
+def rising(chain):
+    """The entries in the order of their keys, equals in the order they had."""
+    return sorted(chain, key=worth_of)
+
+
 def sort_chain(rooms, c, falling):
     """Put a chain's entries in the order of their keys."""
-    # Python leaves equals in their order, also where it sorts in reverse.
     if falling == 1:
+        # Python leaves equals in their order here too.
         rooms.chains[c] = sorted(rooms.chains[c], key=worth_of, reverse=True)
     else:
-        rooms.chains[c] = sorted(rooms.chains[c], key=worth_of)
+        rooms.chains[c] = rising(rooms.chains[c])
     return told_ids([])
 
 

@@ -1,4 +1,4 @@
-"""Which numbers each call has, and the ranges that they may be in."""
+"""Which numbers and lists the calls have, and the ranges that numbers may be in."""
 
 RANGES = {
     "word": (0, 576460752303423487),
@@ -11,6 +11,8 @@ RANGES = {
     "flag": (0, 1),
     "many": (1, 1000),
     "kept": (0, 1000),
+    "before": (0, 999),
+    "need": (2, 1000),
     "turns": (0, 1000000000),
     "top": (-1000000000000000000, 1000000000000000000),
     "bottom": (1, 1000000000000000000),
@@ -32,6 +34,31 @@ FORMS = {
     12: ("number", "top", "bottom"),
     13: ("number", "who", "flag", "top", "bottom"),
     14: ("who",),
+    15: (),
+    16: ("number",),
+    17: ("number",),
+    18: ("number",),
+    19: ("who",),
+    20: ("number", "cond", "top", "bottom"),
+    21: (),
+    22: ("word",),
+    23: (),
+    24: ("word",),
+    25: ("number",),
+    26: (),
+    27: ("number", "before"),
+    28: ("who",),
+}
+
+LISTS = {22: 4}
+
+# What stands in load's lists, row by row.
+ROWS = {
+    "watcher": ("who", "word", "word"),
+    "entry": ("who", "top", "bottom"),
+    "guest": ("who", "top", "bottom", "need"),
+    "caller": ("who", "top", "bottom", "flag"),
+    "part": ("number", "many"),
 }
 
 
@@ -40,9 +67,31 @@ def how_many_numbers(place):
     return len(FORMS[place])
 
 
-def all_in_range(place, numbers):
-    """Whether each number of the call is in its range."""
-    for name, number in zip(FORMS[place], numbers):
+def how_many_lists(place):
+    """How many lists stand behind the call's numbers."""
+    return LISTS.get(place, 0)
+
+
+def row_length(kind):
+    """How many numbers a row of this kind has."""
+    return len(ROWS[kind])
+
+
+def in_ranges(names, numbers):
+    """Whether there is one number for each name, in the range of that name."""
+    if len(names) != len(numbers):
+        return False
+    for name, number in zip(names, numbers):
         if number < RANGES[name][0] or number > RANGES[name][1]:
             return False
     return True
+
+
+def call_in_range(place, numbers):
+    """Whether each number of the call is in its range."""
+    return in_ranges(FORMS[place], numbers)
+
+
+def row_in_range(kind, row):
+    """Whether a row of this kind is whole and each of its numbers in its range."""
+    return in_ranges(ROWS[kind], row)

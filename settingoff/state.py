@@ -51,20 +51,26 @@ class Rooms:
         self.doors = [[] for number in range(PLACES)]
 
 
-def waits(rooms, x):
-    """Whether x waits anywhere."""
-    # The places alone tell who waits: a list of ids beside them could come
-    # to say something else than they do.
-    for waiters in [rooms.watchers] + rooms.chains + rooms.points + rooms.doors:
-        for waiter in waiters:
-            if waiter.who == x:
-                return True
-    return False
-
-
 def ids_of(waiters):
     """The ids of the waiters, in their order."""
     return [waiter.who for waiter in waiters]
+
+
+def place_of(rooms, x):
+    """What x waits at, that place's number, and how many stand in front of x there."""
+    # The places alone tell who waits: a list of ids beside them could come
+    # to say something else than they do.
+    for what, places in enumerate([[rooms.watchers], rooms.chains, rooms.points, rooms.doors], 1):
+        for number, waiters in enumerate(places):
+            ids = ids_of(waiters)
+            if x in ids:
+                return [what, number, ids.index(x)]
+    return [0, 0, 0]
+
+
+def waits(rooms, x):
+    """Whether x waits anywhere."""
+    return place_of(rooms, x)[0] > 0
 
 
 def without(waiters, ids):
@@ -88,4 +94,15 @@ def leave(rooms, x):
     rooms.chains = [without(chain, [x]) for chain in rooms.chains]
     rooms.points = [without(guests, [x]) for guests in rooms.points]
     rooms.doors = [without(callers, [x]) for callers in rooms.doors]
+    return told_ids([])
+
+
+def clear_rooms(rooms):
+    """Make the rooms new."""
+    fresh = Rooms()
+    rooms.word = fresh.word
+    rooms.watchers = fresh.watchers
+    rooms.chains = fresh.chains
+    rooms.points = fresh.points
+    rooms.doors = fresh.doors
     return told_ids([])

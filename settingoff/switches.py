@@ -9,13 +9,22 @@ def stands(word, mask, value):
     return word & mask == value & mask
 
 
+def can_stand(mask, value):
+    """Whether there is a word with which the pattern stands."""
+    return value & mask == value
+
+
+def could(rooms, word):
+    """What put would answer."""
+    return told_ids(ids_of([one for one in rooms.watchers if stands(word, one.mask, one.value)]))
+
+
 def put(rooms, word):
     """Set all switches at once; set off whose pattern stands now."""
+    told = could(rooms, word)
     rooms.word = word
-    watchers = rooms.watchers
-    ids = ids_of([one for one in watchers if stands(word, one.mask, one.value)])
-    rooms.watchers = without(watchers, ids)
-    return told_ids(ids)
+    rooms.watchers = without(rooms.watchers, told[2:])
+    return told
 
 
 def switch_bit(k):
@@ -40,7 +49,7 @@ def watch(rooms, x, mask, value):
     """Let x wait for a pattern, or set it off if that stands already."""
     if waits(rooms, x):
         return [WAITS_ALREADY]
-    if value & mask != value:
+    if not can_stand(mask, value):
         return [NEVER_OR_SAME]
     if stands(rooms.word, mask, value):
         return told_ids([x])

@@ -5,12 +5,13 @@ from fractions import Fraction
 RANGES = {
     "w": (0, 2 ** 59 - 1), "k": (0, 58), "how": (0, 2), "x": (1, 10 ** 9), "place": (0, 63),
     "order": (0, 5), "cond": (0, 6), "bit": (0, 1), "n1": (1, 1000), "n0": (0, 1000), "turns": (0, 10 ** 9),
-    "kn": (-10 ** 18, 10 ** 18), "kd": (1, 10 ** 18),
+    "k999": (0, 999), "kn": (-10 ** 18, 10 ** 18), "kd": (1, 10 ** 18),
 }
 SHAPES = [
     "w", "k how", "x w w", "place x order kn kd", "place bit n1 cond kn kd",
     "place place bit n1 cond kn kd order", "place bit", "place turns", "place", "place place",
     "place place n0", "place x n1 kn kd", "place kn kd", "place x bit kn kd", "x",
+    "", "place", "place", "place", "x", "place cond kn kd", "", "w", "", "w", "place", "", "place k999", "x",
 ]
 BESIDE = {
     0: lambda own, told: True, 1: lambda own, told: own == told, 2: lambda own, told: own < told,
@@ -29,10 +30,13 @@ class Model:
         self.doors = [[] for d in range(64)]
 
     def call(self, place, *numbers):
+        lists = []
+        if place == 22:
+            numbers, lists = numbers[:1], unframed(numbers[1:])
         for name, number in zip(SHAPES[place].split(), numbers, strict=True):
             if not RANGES[name][0] <= number <= RANGES[name][1]:
                 return [-1]
-        return CALLS[place](self, *numbers)
+        return CALLS[place](self, *numbers, *lists)
 
     def waits(self, x):
         lists = [self.watchers, *self.chains, *self.points, *self.doors]
@@ -175,10 +179,133 @@ class Model:
                     return [0, 0]
         return [-10]
 
+    def word(self):
+        return sum(2 ** k for k in range(59) if self.on[k])
+
+    def switches(self):
+        return [self.word(), 3 * len(self.watchers)] + [number for one in self.watchers for number in one]
+
+    def tell(self, waiters):
+        told = [len(waiters)]
+        for x, key, *more in waiters:
+            told += [x, key.numerator, key.denominator, *more]
+        return told
+
+    def chain(self, c):
+        return self.tell(self.chains[c])
+
+    def point(self, m):
+        return self.tell(self.points[m])
+
+    def door(self, d):
+        return self.tell(self.doors[d])
+
+    def place(self, x):
+        for what, places in ((1, [self.watchers]), (2, self.chains), (3, self.points), (4, self.doors)):
+            for number, waiters in enumerate(places):
+                for in_front, one in enumerate(waiters):
+                    if one[0] == x:
+                        return [what, number, in_front]
+        return [0, 0, 0]
+
+    def count(self, c, cond, kn, kd):
+        return [sum(BESIDE[cond](entry[1], Fraction(kn, kd)) for entry in self.chains[c])]
+
+    def told(self):
+        told = self.switches()
+        for places in (self.chains, self.points, self.doors):
+            numbers = []
+            for number, waiters in enumerate(places):
+                if waiters:
+                    numbers += [number] + self.tell(waiters)
+            told += [len(numbers)] + numbers
+        return told
+
+    def load(self, w, watchers, chains, points, doors):
+        """As the first of the sentences on load has it: calls that bring such rooms about are looked for."""
+        other = Model()
+        other.put(w)
+        coming = [(2, *row) for row in rows_of(watchers, 3)]
+        coming += [(3, number, row[0], 0, *row[1:]) for number, row in rows_by_part(chains, 3)]
+        coming += [(11, number, row[0], row[3], *row[1:3]) for number, row in rows_by_part(points, 4)]
+        coming += [(13, number, row[0], row[3], *row[1:3]) for number, row in rows_by_part(doors, 4)]
+        if any(other.call(*call) != [1] for call in coming):
+            return [-2]
+        told = [w]
+        for numbers in (watchers, chains, points, doors):
+            told += [len(numbers), *numbers]
+        if other.told() != told:
+            return [-2]
+        vars(self).update(vars(other))
+        return [0, 0]
+
+    def clear(self):
+        self.__init__()
+        return [0, 0]
+
+    def could(self, w):
+        kept, watchers = self.on, self.watchers
+        told = self.put(w)
+        self.on, self.watchers = kept, watchers
+        return told
+
+    def disorder(self, c):
+        keys = [entry[1] for entry in self.chains[c]]
+        return [sum(keys[i] > keys[j] for j in range(len(keys)) for i in range(j))]
+
+    def counts(self):
+        return [len(self.watchers)] + [sum(map(len, places)) for places in (self.chains, self.points, self.doors)]
+
+    def before(self, entry, c):
+        """How many stand before it in the sorted chain: the lesser ones and, of equals, those in front."""
+        at = self.chains[c].index(entry)
+        return sum(other[1] < entry[1] or (other[1] == entry[1] and i < at)
+                   for i, other in enumerate(self.chains[c]))
+
+    def kth(self, c, k):
+        for entry in self.chains[c]:
+            if self.before(entry, c) == k:
+                return self.tell([entry])[1:]
+        return [-6]
+
+    def rank(self, x):
+        for c, chain in enumerate(self.chains):
+            for entry in chain:
+                if entry[0] == x:
+                    return [self.before(entry, c)]
+        return [-10]
+
+
+def unframed(numbers):
+    """The lists that stand one behind another, each with its length before it."""
+    lists = []
+    while numbers:
+        lists.append(list(numbers[1:1 + numbers[0]]))
+        numbers = numbers[1 + numbers[0]:]
+    return lists
+
+
+def rows_of(numbers, length):
+    """Whole rows; what is left over is missed when told is compared."""
+    return [tuple(numbers[i:i + length]) for i in range(0, len(numbers) - length + 1, length)]
+
+
+def rows_by_part(numbers, length):
+    """Each whole row with its part's number; what is left over is missed when told is compared."""
+    found = []
+    at = 0
+    while at + 1 < len(numbers) and numbers[at + 1] > 0:
+        end = at + 2 + numbers[at + 1] * length
+        found += [(numbers[at], row) for row in rows_of(numbers[at + 2:end], length)]
+        at = end
+    return found
+
 
 CALLS = [
     Model.put, Model.set, Model.watch, Model.link, Model.unlink, Model.move, Model.sort, Model.rotate,
     Model.reverse, Model.merge, Model.cut, Model.arrive, Model.dissolve, Model.pair, Model.leave,
+    Model.switches, Model.chain, Model.point, Model.door, Model.place, Model.count, Model.told,
+    Model.load, Model.clear, Model.could, Model.disorder, Model.counts, Model.kth, Model.rank,
 ]
 
 

@@ -47,7 +47,7 @@ class Pair(unittest.TestCase):
         self.assertEqual(run(calls), [[1], off(1, 2), [1], off(2, 1)])
 
     def test_room_for_a_thousand(self):
-        # More calls than a list may have: no other call of these fills a place at once.
+        # Filled call by call, by more calls than a list may have; test_full.py stays within them.
         full = [(PAIR, 2, x, x % 2, x, 1) for x in range(1, 1001)]
         after = [(PAIR, 2, 2001, 0, 5000, 1), (PAIR, 2, 2001, 1, 7, 1), (LEAVE, 2001), (PAIR, 3, 2001, 0, 1, 1),
                  (PAIR, 2, 8, 1, 9, 1), (PAIR, 2, 2002, 0, 7, 1), (PAIR, 2, 2003, 0, 7, 1), (PAIR, 2, 2004, 0, 7, 1)]

@@ -74,7 +74,7 @@ class Link(unittest.TestCase):
                 self.assertTrue(changes_nothing((LINK, c, x, 1, 0, 1), -3))
 
     def test_room_for_a_thousand(self):
-        # More calls than a list may have: no other call of these fills a place at once.
+        # Filled call by call, by more calls than a list may have; test_full.py stays within them.
         full = [(LINK, 4, x, 0, x, 1) for x in range(1, 1001)]
         after = [(LINK, 4, 1001, 2, 1, 2), (LINK, 4, 1, 0, 1, 1), (LINK, 5, 1001, 0, 1, 1), (LEAVE, 1001),
                  (LEAVE, 3), (LINK, 4, 1001, 1, 1, 1), (LINK, 4, 3, 1, 1, 1), empty_chain(4)]

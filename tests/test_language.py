@@ -157,6 +157,25 @@ class Forms(unittest.TestCase):
             if isinstance(kept, ast.Call) and isinstance(kept.func, ast.Name):
                 self.assertNotIn(kept.func.id, ("zip", "enumerate", "reversed", "range", "set"), path)
 
+    def test_sets_are_not_kept(self):
+        beside = []
+        for path, node in nodes(ast.Call):
+            if isinstance(node.func, ast.Name) and node.func.id in ("len", "sorted") and not node.keywords:
+                beside.extend(node.args)
+        for path, node in nodes(ast.Compare):
+            beside.extend([node.left, *node.comparators])
+        for path, node in nodes(ast.Call):
+            if isinstance(node.func, ast.Name) and node.func.id in ("set", "frozenset"):
+                self.assertTrue(any(node is one for one in beside), (path, node.lineno))
+        self.assertEqual(nodes(ast.Set), [])
+
+    def test_keywords(self):
+        for path, node in nodes(ast.Call):
+            for keyword in node.keywords:
+                self.assertEqual(node.func.id, "sorted", (path, node.lineno))
+                self.assertIn(keyword.arg, ("key", "reverse"))
+                self.assertEqual(isinstance(keyword.value, ast.Constant), keyword.arg == "reverse")
+
 
 class Tops(unittest.TestCase):
     def test_tops_hold_plain_values_bound_once(self):

@@ -59,7 +59,7 @@ class Arrive(unittest.TestCase):
         self.assertEqual(run(calls), [[1], off(1, 2), [1], [1], off(2, 1, 3)])
 
     def test_room_for_a_thousand(self):
-        # More calls than a list may have: no other call of these fills a place at once.
+        # Filled call by call, by more calls than a list may have; test_full.py stays within them.
         full = [(ARRIVE, 2, x, 1000, 1, 1) for x in range(1, 1000)] + [(ARRIVE, 2, 1000, 3, 2, 1)]
         after = [(ARRIVE, 2, 2001, 9, 3, 1), (ARRIVE, 2, 2001, 9, 2, 1), (ARRIVE, 2, 2001, 1, 3, 1),
                  (ARRIVE, 2, 1000, 9, 3, 1), (ARRIVE, 3, 2001, 9, 3, 1), (ARRIVE, 2, 2002, 5, 1, 1),

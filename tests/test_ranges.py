@@ -2,10 +2,11 @@
 
 import unittest
 
-from support import (ARRIVE, BIG, CUT, DISSOLVE, FURNISHED, LEAVE, LINK, MERGE, MOVE, PAIR, PUT, REVERSE, ROTATE,
-                     SET, SORT, UNLINK, WATCH, WORD, changes_nothing, last)
+from support import (ARRIVE, BIG, CHAIN, CLEAR, COULD, COUNT, COUNTS, CUT, DISORDER, DISSOLVE, DOOR, FURNISHED, KTH,
+                     LEAVE, LINK, LOAD, MERGE, MOVE, PAIR, PLACE, POINT, PUT, RANK, REVERSE, ROTATE, SET, SORT,
+                     SWITCHES, TOLD, UNLINK, WATCH, WORD, changes_nothing, last, load)
 
-CHAIN = (0, 63)
+NUMBER = (0, 63)
 ID = (1, 10 ** 9)
 KEY = ((-BIG, BIG), (1, BIG))
 ORDER = (0, 5)
@@ -19,18 +20,32 @@ CALLS = {
     PUT: ((WORDS,), (6,)),
     SET: (((0, 58), (0, 2)), (3, 1)),
     WATCH: ((ID, WORDS, WORDS), (77, 6, 6)),
-    LINK: ((CHAIN, ID, ORDER, *KEY), (2, 77, 0, 1, 2)),
-    UNLINK: ((CHAIN, BIT, MANY, COND, *KEY), (2, 0, 1, 0, 1, 2)),
-    MOVE: ((CHAIN, CHAIN, BIT, MANY, COND, *KEY, ORDER), (2, 3, 0, 1, 0, 1, 2, 0)),
-    SORT: ((CHAIN, BIT), (2, 0)),
-    ROTATE: ((CHAIN, (0, 10 ** 9)), (2, 1)),
-    REVERSE: ((CHAIN,), (2,)),
-    MERGE: ((CHAIN, CHAIN), (2, 3)),
-    CUT: ((CHAIN, CHAIN, (0, 1000)), (2, 3, 1)),
-    ARRIVE: ((CHAIN, ID, MANY, *KEY), (2, 77, 3, 1, 2)),
-    DISSOLVE: ((CHAIN, *KEY), (2, 1, 2)),
-    PAIR: ((CHAIN, ID, BIT, *KEY), (2, 77, 0, 1, 2)),
+    LINK: ((NUMBER, ID, ORDER, *KEY), (2, 77, 0, 1, 2)),
+    UNLINK: ((NUMBER, BIT, MANY, COND, *KEY), (2, 0, 1, 0, 1, 2)),
+    MOVE: ((NUMBER, NUMBER, BIT, MANY, COND, *KEY, ORDER), (2, 3, 0, 1, 0, 1, 2, 0)),
+    SORT: ((NUMBER, BIT), (2, 0)),
+    ROTATE: ((NUMBER, (0, 10 ** 9)), (2, 1)),
+    REVERSE: ((NUMBER,), (2,)),
+    MERGE: ((NUMBER, NUMBER), (2, 3)),
+    CUT: ((NUMBER, NUMBER, (0, 1000)), (2, 3, 1)),
+    ARRIVE: ((NUMBER, ID, MANY, *KEY), (2, 77, 3, 1, 2)),
+    DISSOLVE: ((NUMBER, *KEY), (2, 1, 2)),
+    PAIR: ((NUMBER, ID, BIT, *KEY), (2, 77, 0, 1, 2)),
     LEAVE: ((ID,), (77,)),
+    SWITCHES: ((), ()),
+    CHAIN: ((NUMBER,), (2,)),
+    POINT: ((NUMBER,), (2,)),
+    DOOR: ((NUMBER,), (2,)),
+    PLACE: ((ID,), (77,)),
+    COUNT: ((NUMBER, COND, *KEY), (2, 0, 1, 2)),
+    TOLD: ((), ()),
+    LOAD: ((WORDS,), load(6, (9, 1, 1))[1:]),
+    CLEAR: ((), ()),
+    COULD: ((WORDS,), (6,)),
+    DISORDER: ((NUMBER,), (2,)),
+    COUNTS: ((), ()),
+    KTH: ((NUMBER, (0, 999)), (0, 3)),
+    RANK: ((ID,), (24,)),
 }
 
 # Where another refusal would be due: numbers in range that are refused otherwise.
@@ -42,6 +57,9 @@ REFUSED = {
     ARRIVE: [((0, 31, 3, 1, 2), -3)],
     PAIR: [((0, 41, 1, 1, 2), -3)],
     LEAVE: [((77,), -10)],
+    LOAD: [(load(5, (9, 1, 0, 7))[1:], -2), (load(5, chains=[0])[1:], -2), (load(5, (9, 1, 1))[1:], -2)],
+    KTH: [((0, 4), -6), ((5, 0), -6)],
+    RANK: [((77,), -10), ((11,), -10)],
 }
 
 
@@ -53,8 +71,8 @@ def beyond(place, numbers):
 
 
 class Ranges(unittest.TestCase):
-    def test_all_fifteen_are_here(self):
-        self.assertEqual(sorted(CALLS), list(range(15)))
+    def test_all_calls_are_here(self):
+        self.assertEqual(sorted(CALLS), list(range(29)))
 
     def test_ends_are_in(self):
         for place, (ranges, numbers) in CALLS.items():
@@ -81,7 +99,8 @@ class Ranges(unittest.TestCase):
     def test_a_denominator_of_zero_or_below(self):
         for kd in (0, -1, -BIG):
             for call in ((LINK, 0, 77, 0, 1, kd), (UNLINK, 0, 0, 1, 1, 1, kd), (MOVE, 0, 1, 0, 1, 0, 1, kd, 0),
-                         (ARRIVE, 0, 77, 2, 1, kd), (DISSOLVE, 0, 1, kd), (PAIR, 0, 77, 0, 1, kd)):
+                         (ARRIVE, 0, 77, 2, 1, kd), (DISSOLVE, 0, 1, kd), (PAIR, 0, 77, 0, 1, kd),
+                         (COUNT, 0, 0, 1, kd)):
                 with self.subTest(call=call):
                     self.assertTrue(changes_nothing(call, -1))
 

@@ -92,7 +92,7 @@ class Watch(unittest.TestCase):
         self.assertEqual(last(FURNISHED + [(WATCH, 11, 0, 0)]), [-3])
 
     def test_room_for_a_thousand(self):
-        # More calls than a list may have: no other call of these fills a place at once.
+        # Filled call by call, by more calls than a list may have; test_full.py stays within them.
         full = [(WATCH, x, 1, 1) for x in range(1, 1001)]
         after = [
             (WATCH, 1001, 1, 1), (WATCH, 1001, 2, 0), (WATCH, 1, 1, 1), (WATCH, 1001, 1, 2), (LEAVE, 500),
